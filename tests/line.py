@@ -48,6 +48,12 @@ def cards_of(term_count):
     return sorted(CHECK_CARDS + TERM_CARDS[:term_count])
 
 
+def is_sound(cards):
+    """Whether the cards are even in number, and each of 1, 2, 4, 8 a part of an even number of them."""
+    counts = [len(cards)] + [sum(1 for card in cards if card & part) for part in (1, 2, 4, 8)]
+    return all(count % 2 == 0 for count in counts)
+
+
 def survey(term_count, place_count):
     """Calls that change nothing and tell all that these calls can tell."""
     calls = [("itemcard", place) for place in range(place_count)]

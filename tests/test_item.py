@@ -1,18 +1,13 @@
 import itertools
 import unittest
 
-from tests.line import CHECK_CARDS, GREATEST, LEAST, TERM_CARDS, last, state, told
+from tests.line import CHECK_CARDS, GREATEST, LEAST, TERM_CARDS, is_sound, last, state, told
 
 
 def all_sets(terms):
     for size in range(terms + 1):
         for chosen in itertools.combinations(range(terms), size):
             yield list(chosen)
-
-
-def is_sound(cards):
-    counts = [len(cards)] + [sum(1 for card in cards if card & part) for part in (1, 2, 4, 8)]
-    return all(count % 2 == 0 for count in counts)
 
 
 class Item(unittest.TestCase):

@@ -1,12 +1,7 @@
 import itertools
 import unittest
 
-from tests.line import cards_of, last, told
-
-
-def is_sound(cards):
-    counts = [len(cards)] + [sum(1 for card in cards if card & part) for part in (1, 2, 4, 8)]
-    return all(count % 2 == 0 for count in counts)
+from tests.line import cards_of, is_sound, last, told
 
 
 def ways_by_the_words(cards, lost, holes):
