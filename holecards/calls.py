@@ -13,6 +13,16 @@ SHAPES = {
     8: ("lose", 1, False),
     9: ("unread", 0, False),
     10: ("wrong", 0, False),
+    11: ("mend", 0, False),
+    12: ("unlike", 0, False),
+    13: ("anew", 1, False),
+    14: ("common", 0, True),
+    15: ("closed", 0, True),
+    16: ("alone", 1, False),
+    17: ("concepts", 0, False),
+    18: ("further", 0, True),
+    19: ("counts", 0, False),
+    20: ("clear", 0, False),
 }
 
 

@@ -1,6 +1,7 @@
 """The calls that change a card file: each gives back its answer."""
 
 from holecards.cards import item_holes
+from holecards.reading import read_places
 from holecards.replies import CARD_IS_LOST, FOUR_ARE_LOST, NOT_AS_TOLD, PLACE_IS_TAKEN, counted
 
 MOST_TERMS = 11
@@ -47,3 +48,31 @@ def lose_card(card_file, card):
         return [FOUR_ARE_LOST]
     card_file.take_out(card)
     return [len(card_file.lost)]
+
+
+def mend_cards(card_file):
+    readings = read_places(card_file)
+    unread = 0
+    put_right = 0
+    for place in card_file.places():
+        way = readings[place]
+        if way is None:
+            unread = unread + 1
+            continue
+        put_right = put_right + (0 if way[0] is None else 1)
+        mend_place(card_file, place, way)
+    card_file.have_all_cards()
+    return [unread, put_right]
+
+
+def mend_place(card_file, place, way):
+    if way[0] is not None:
+        card_file.turn_hole(way[0], place)
+    for card in way[1]:
+        # A lost card's holes are gone, so turning punches.
+        card_file.turn_hole(card, place)
+
+
+def clear_file(card_file):
+    card_file.begin()
+    return [0]

@@ -1,28 +1,24 @@
 """The calls that change nothing: each gives back its answer."""
 
 from holecards.cards import card_of
+from holecards.light import shining_places
 from holecards.reading import read_places
-from holecards.replies import CARD_IS_LOST, NOT_AS_TOLD, counted
+from holecards.replies import CARD_IS_LOST, NOT_AS_TOLD, counted, paired
 
 
 def places_that_shine(card_file, terms):
     if not card_file.are_terms(terms):
         return [NOT_AS_TOLD]
-    cards = [card_of(term) for term in terms]
-    if any([card_file.is_lost(card) for card in cards]):
+    if any([card_file.is_lost(card_of(term)) for term in terms]):
         return [CARD_IS_LOST]
-    shining = []
-    for place in range(card_file.place_count):
-        if all([card_file.has_hole(card, place) for card in cards]):
-            shining.append(place)
-    return counted(shining)
+    return counted(shining_places(card_file, terms))
 
 
 def places_found(card_file, terms):
     if not card_file.are_terms(terms):
         return [NOT_AS_TOLD]
     found = []
-    for place in range(card_file.place_count):
+    for place in card_file.places():
         told = card_file.item_cards[place]
         if told is not None and all([term in told for term in terms]):
             found.append(place)
@@ -64,7 +60,26 @@ def wrong_holes(card_file):
         way = readings[place]
         if way is not None and way[0] is not None:
             pairs.append((way[0], place))
-    answer = [len(pairs)]
-    for pair in pairs:
-        answer.extend(pair)
-    return answer
+    return paired(pairs)
+
+
+def holes_unlike_item_cards(card_file):
+    pairs = []
+    for term in card_file.terms():
+        card = card_of(term)
+        if card_file.is_lost(card):
+            continue
+        for place in card_file.places():
+            if card_file.has_hole(card, place) != card_file.item_has(place, term):
+                pairs.append((term, place))
+    return paired(pairs)
+
+
+def holes_by_item_cards(card_file, term):
+    if not card_file.is_term(term):
+        return [NOT_AS_TOLD]
+    return counted([place for place in card_file.places() if card_file.item_has(place, term)])
+
+
+def how_many_of_each(card_file):
+    return [card_file.term_count, card_file.place_count, card_file.item_count(), len(card_file.lost)]

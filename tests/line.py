@@ -1,8 +1,13 @@
-"""Writes lines of calls by their names and takes their answers apart."""
+"""Writes lines of calls by their names, takes their answers apart, and reads places by the document's words."""
+
+import functools
+import itertools
 
 from holecards.files import answers
 
-NAMES = ("file", "item", "light", "found", "term", "itemcard", "check", "toggle", "lose", "unread", "wrong")
+NAMES = (
+    "file", "item", "light", "found", "term", "itemcard", "check", "toggle", "lose", "unread", "wrong",
+    "mend", "unlike", "anew", "common", "closed", "alone", "concepts", "further", "counts", "clear")
 TERM_CARDS = (3, 5, 6, 7, 9, 10, 11, 12, 13, 14, 15)
 CHECK_CARDS = (0, 1, 2, 4, 8)
 LEAST = -9223372036854775808
@@ -54,13 +59,31 @@ def is_sound(cards):
     return all(count % 2 == 0 for count in counts)
 
 
+@functools.lru_cache(maxsize=None)
+def ways_by_the_words(cards, lost, holes):
+    """Every way that counts, tried one by one: the wrong card, or None, and the lost cards with a hole.
+
+    All three are tuples, and holes tells of no lost card.
+    """
+    without, with_one = [], []
+    for size in range(len(lost) + 1):
+        for filled in itertools.combinations(lost, size):
+            if is_sound(set(holes) | set(filled)):
+                without.append((None, filled))
+            for wrong in set(cards) - set(lost):
+                if is_sound((set(holes) ^ {wrong}) | set(filled)):
+                    with_one.append((wrong, filled))
+    return without or with_one
+
+
 def survey(term_count, place_count):
-    """Calls that change nothing and tell all that these calls can tell."""
+    """Calls that tell all there is to tell: what changes nothing, then mend, which lets lost cards tell too."""
     calls = [("itemcard", place) for place in range(place_count)]
     calls.append(("itemcard", place_count))
     calls.extend(("check", card) for card in range(16))
     calls.extend(("term", term) for term in range(term_count + 1))
-    calls.extend([("light", []), ("found", []), ("unread",), ("wrong",)])
+    calls.extend([("light", []), ("found", []), ("unread",), ("wrong",), ("unlike",), ("counts",), ("mend",)])
+    calls.extend(("check", card) for card in range(16))
     return calls
 
 

@@ -131,7 +131,21 @@ class NothingChanges(unittest.TestCase):
         before = state(calls, 3, 4)
         asked = [("light", [0]), ("light", [1]), ("light", [3]), ("found", [0]), ("found", [0, 0]), ("term", 0)]
         asked += [("term", 1), ("itemcard", 0), ("itemcard", 9), ("check", 0), ("check", 5), ("check", 7)]
-        asked += [("unread",), ("wrong",)]
+        asked += [("unread",), ("wrong",), ("unlike",), ("anew", 0), ("anew", 1), ("anew", 3), ("common", [0, 1])]
+        asked += [("common", [4]), ("closed", [0]), ("closed", [3]), ("alone", 0), ("alone", 4), ("concepts",)]
+        asked += [("further", []), ("further", [1, 0]), ("counts",)]
         for call in asked:
             self.assertEqual(state(calls + [call], 3, 4), before, call)
+        self.assertEqual(state(calls + asked, 3, 4), before)
+
+    def test_asking_changes_nothing_with_no_card_lost(self):
+        calls = FILE + [("toggle", 3, 2), ("toggle", 0, 1), ("toggle", 1, 1)]
+        before = state(calls, 3, 4)
+        asked = [("light", [0, 1]), ("found", [0]), ("term", 0), ("itemcard", 0), ("check", 0), ("unread",), ("wrong",)]
+        asked += [("unlike",), ("anew", 0), ("common", [0, 1]), ("common", []), ("closed", [0]), ("alone", 0)]
+        asked += [("concepts",), ("further", [0]), ("further", []), ("counts",)]
+        for call in asked:
+            self.assertEqual(state(calls + [call], 3, 4), before, call)
+            self.assertEqual(told(*calls, call, call)[-2], last(*calls, call), call)
+            self.assertEqual(told(*calls, call, call)[-1], last(*calls, call), call)
         self.assertEqual(state(calls + asked, 3, 4), before)

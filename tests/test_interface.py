@@ -11,7 +11,10 @@ from tests.line import GREATEST, LEAST, apart, flat, told
 LINE = flat([
     ("file", 11, 40), ("item", 0, [0, 3, 10]), ("item", 39, []), ("toggle", 0, 5), ("toggle", 15, 6),
     ("light", [0, 3]), ("found", []), ("term", 10), ("itemcard", 0), ("check", 0), ("lose", 8), ("lose", 8),
-    ("unread",), ("wrong",), ("item", 1, [LEAST, GREATEST]), ("file", GREATEST, LEAST), ("itemcard", 39)])
+    ("unread",), ("wrong",), ("item", 1, [LEAST, GREATEST]), ("file", GREATEST, LEAST), ("itemcard", 39),
+    ("unlike",), ("anew", 3), ("common", [0, 5]), ("closed", [0]), ("alone", 0), ("concepts",), ("further", [10]),
+    ("counts",), ("lose", 3), ("common", []), ("common", [GREATEST, LEAST]), ("mend",), ("alone", 40), ("clear",),
+    ("counts",), ("alone", 0), ("item", 0, [0]), ("lose", 0)])
 
 
 class Unchangeable(list):
@@ -40,11 +43,28 @@ class Interface(unittest.TestCase):
         self.assertEqual(answers([9]), [1, 0])
         self.assertEqual(answers([7, 3, 0, 10]), [1, 1, 3, 1, 3, 0])
         self.assertEqual(answers([4, -1]), [1, -1])
+        self.assertEqual(answers([7, 3, 0, 11]), [1, 1, 2, 0, 1])
+        self.assertEqual(answers([12]), [1, 0])
+        self.assertEqual(answers([7, 3, 0, 12]), [1, 1, 3, 1, 0, 0])
+        self.assertEqual(answers([13, 0]), [1, 0])
+        self.assertEqual(answers([14, 0]), [2, 1, 0])
+        self.assertEqual(answers([14, 1, 0]), [1, 0])
+        self.assertEqual(answers([15, 0]), [1, 0])
+        self.assertEqual(answers([15, 1, 0]), [2, 1, 0])
+        self.assertEqual(answers([16, 0]), [2, 1, 0])
+        self.assertEqual(answers([0, 1, 2, 16, 0]), [1, 0, 1, 0])
+        self.assertEqual(answers([17]), [1, 2])
+        self.assertEqual(answers([18, 1, 0]), [2, 1, 0])
+        self.assertEqual(answers([19]), [4, 1, 1, 0, 0])
+        self.assertEqual(answers([20]), [1, 0])
+        self.assertEqual(answers([8, 3, 17]), [1, 1, 1, -5])
 
     def test_calls_lie_one_behind_another(self):
         # The numbers within a row look like calls of their own.
         self.assertEqual(answers([2, 3, 9, 9, 10, 9, 3, 1, 10, 10]), [1, -1, 1, 0, 1, -1, 1, 0])
         self.assertEqual(answers([1, 9, 2, 0, 0, 7, 10, 9, 10]), [1, -1, 1, -1, 1, 0])
+        self.assertEqual(answers([14, 2, 20, 20, 15, 1, 19, 18, 3, 11, 11, 11, 20]), [1, -1, 1, -1, 1, -1, 1, 0])
+        self.assertEqual(answers([13, 20, 16, 19, 17, 11, 12]), [1, -1, 1, -1, 1, 2, 2, 0, 0, 1, 0])
 
     def test_every_answer_is_of_plain_whole_numbers(self):
         given = answers(LINE)
@@ -66,8 +86,8 @@ class Interface(unittest.TestCase):
         self.assertEqual(answers(LINE), kept)
 
     def test_nothing_is_kept_from_one_line_to_the_next(self):
-        fresh = [("itemcard", 1), ("check", 5), ("itemcard", 0), ("check", 3), ("lose", 0), ("light", [])]
-        expected = [[-1], [-1], [0], [0], [1], [1, 0]]
+        fresh = [("counts",), ("itemcard", 1), ("check", 5), ("itemcard", 0), ("check", 3), ("lose", 0), ("light", [])]
+        expected = [[1, 1, 0, 0], [-1], [-1], [0], [0], [1], [1, 0]]
         self.assertEqual(told(*fresh), expected)
         answers(LINE)
         self.assertEqual(told(*fresh), expected)
@@ -101,3 +121,14 @@ class Interface(unittest.TestCase):
     def test_a_row_may_have_forty_numbers(self):
         self.assertEqual(told(("light", [0] * 40), ("light", [0])), [[-1], [0]])
         self.assertEqual(told(("item", 0, list(range(40))), ("itemcard", 0)), [[-1], [0]])
+        self.assertEqual(told(("file", 1, 40), ("common", list(range(40))), ("closed", [0] * 40), ("further", [0] * 40)),
+                         [[0], [0], [-1], [-1]])
+        self.assertEqual(told(("common", list(range(40))), ("counts",)), [[-1], [1, 1, 0, 0]])
+
+    def test_the_longest_answer(self):
+        calls = [("file", 11, 40)] + [("item", place, list(range(11))) for place in range(40)]
+        # Four such cards stand for one another, so that no place can be read and they come back without holes.
+        for lost in ((0, 3, 5, 6), (0, 7, 9, 14), (0, 10, 12, 6), (0, 11, 13, 6), (0, 15, 3, 12)):
+            calls += [("lose", card) for card in lost] + [("mend",)]
+        pairs = [number for term in range(11) for place in range(40) for number in (term, place)]
+        self.assertEqual(told(*calls, ("unlike",))[-2:], [[40, 0], [440] + pairs])
